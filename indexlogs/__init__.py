@@ -1,0 +1,1 @@
+"""Indexlogs: list operations whose order was lost."""
