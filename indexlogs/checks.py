@@ -11,6 +11,11 @@ def is_integer(thing):
     return isinstance(thing, int) and not isinstance(thing, bool)
 
 
+def first_of(rows):
+    """Give the first entry of a list, or None if it has none."""
+    return rows[0] if len(rows) > 0 else None
+
+
 def is_item(thing):
     """Tell whether any object is an item."""
     if not isinstance(thing, str) or len(thing) > MOST_LETTERS:

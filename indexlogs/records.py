@@ -211,3 +211,17 @@ class Fronted(Record):
         if not stands_at(items, self._item, 0) or self._slot >= len(items):
             raise Impossible(self._item)
         return put_in(taken_out(items, 0), self._item, self._slot)
+
+
+def is_sign(thing):
+    """Tell whether any object is the sign of one of the three kinds."""
+    return thing in (Inserted.SIGN, Removed.SIGN, Fronted.SIGN)
+
+
+def record_of(sign, item, slot):
+    """Give a new record of the kind with this sign."""
+    if sign == Inserted.SIGN:
+        return Inserted(item, slot)
+    if sign == Removed.SIGN:
+        return Removed(item, slot)
+    return Fronted(item, slot)

@@ -2,7 +2,7 @@
 
 from indexlogs.checks import check_items
 from indexlogs.errors import Impossible, NoLog
-from indexlogs.records import Record
+from indexlogs.records import Fronted, Record
 
 MOST_IN_LOG = 40
 MOST_REPLAYED = 80
@@ -27,6 +27,22 @@ def is_log(thing):
     if len({record.SIGN for record in thing}) > 1:
         return False
     return len({record.item for record in thing}) == len(thing)
+
+
+def check_log(log):
+    """Raise NoLog for any object that is no log."""
+    if not is_log(log):
+        raise NoLog("not a list of at most 40 records of one kind with different items")
+
+
+def sign_of(log):
+    """Give the sign of the log's kind; the empty log, which is of every kind, has that of no kind."""
+    return log[0].SIGN if len(log) > 0 else Record.SIGN
+
+
+def is_fronted(log):
+    """Tell whether the records of the log are moves to the front."""
+    return sign_of(log) == Fronted.SIGN
 
 
 def check_records(records):

@@ -12,6 +12,27 @@ def names(many):
     return [letters[k // 26] + letters[k % 26] for k in range(many)]
 
 
+def shuffled(rows, seed):
+    """Give the rows in another order, which depends on the seed alone."""
+    left, found = list(rows), []
+    state = seed * 7919 + 12345
+    while left:
+        state = (state * 1103515245 + 12345) % 2 ** 31
+        found.append(left.pop(state // 65536 % len(left)))
+    return found
+
+
+def partial(rows, many):
+    """Give each tuple of entries of the rows or None, each entry at most once, of a length."""
+    if many == 0:
+        yield ()
+        return
+    for first in [None] + list(rows):
+        rest = [row for row in rows if row != first]
+        for behind in partial(rest, many - 1):
+            yield (first,) + behind
+
+
 def nested(thing, depth):
     """Give a list that contains the thing so many lists deep."""
     for _ in range(depth):
@@ -48,4 +69,12 @@ NO_RECORD_LISTS = OTHERS + [[thing] for thing in OTHERS if not isinstance(thing,
     [Record("a", 0)], [Inserted("a", 0), Record("b", 0)], [Inserted("a", 0), None], ["+a@0"],
     [Inserted("a", 0), "+b@0"], [Removed("a", 0), ("b", 0)], nested(Fronted("a", 0), 6), [None] * 2000,
     names(60), [True],
+]
+
+# Objects that are no log.
+NO_LOGS = NO_RECORD_LISTS + [
+    [Inserted("a", 0), Removed("b", 0)], [Removed("a", 0), Fronted("b", 0)], [Fronted("a", 0), Inserted("b", 0)],
+    [Inserted("a", 0), Inserted("a", 0)], [Removed("a", 0), Removed("b", 0), Removed("a", 1)],
+    [Inserted(item, 0) for item in names(41)], [Fronted(item, 60) for item in names(41)],
+    [Inserted(item, 0) for item in names(39)] + [Removed("x", 0)],
 ]
