@@ -1,9 +1,9 @@
 """The order of a log's records, found from their indices and the known list."""
 
 from indexlogs.checks import check_items, first_of, is_items
-from indexlogs.errors import Impossible, NoItem, NoList, NoLog
-from indexlogs.records import Fronted, Inserted, is_sign, record_of
-from indexlogs.replay import MOST_IN_LOG, check_log, is_fronted, sign_of
+from indexlogs.errors import Impossible, NoItem, NoList
+from indexlogs.records import Fronted, Inserted, record_of
+from indexlogs.replay import MOST_IN_LOG, check_log, check_sign, is_fronted, sign_of
 
 
 def check_known(log, items):
@@ -111,8 +111,7 @@ def slot_of(kind, items, names, name):
 
 def log_of(kind, items, names):
     """Give the log of a kind whose records have happened in the order of names."""
-    if not is_sign(kind):
-        raise NoLog("not the sign of a kind")
+    check_sign(kind)
     check_items(items)
     check_names(items, names)
     return [record_of(kind, name, slot_of(kind, items, names, name)) for name in names]

@@ -2,7 +2,7 @@
 
 from indexlogs.checks import check_items
 from indexlogs.errors import Impossible, NoLog
-from indexlogs.records import Fronted, Record
+from indexlogs.records import Fronted, Record, is_sign
 
 MOST_IN_LOG = 40
 MOST_REPLAYED = 80
@@ -33,6 +33,12 @@ def check_log(log):
     """Raise NoLog for any object that is no log."""
     if not is_log(log):
         raise NoLog("not a list of at most 40 records of one kind with different items")
+
+
+def check_sign(sign):
+    """Raise NoLog for any object that is not the sign of one of the three kinds."""
+    if not is_sign(sign):
+        raise NoLog("not the sign of a kind")
 
 
 def sign_of(log):

@@ -12,13 +12,27 @@ def names(many):
     return [letters[k // 26] + letters[k % 26] for k in range(many)]
 
 
+class Draw:
+    """Draws that depend on the seed alone."""
+
+    def __init__(self, seed):
+        self.state = seed * 7919 + 12345
+
+    def below(self, many):
+        """Draw a number from 0 to many - 1."""
+        self.state = (self.state * 1103515245 + 12345) % 2 ** 31
+        return self.state // 65536 % many
+
+    def pick(self, rows):
+        """Draw an entry."""
+        return rows[self.below(len(rows))]
+
+
 def shuffled(rows, seed):
     """Give the rows in another order, which depends on the seed alone."""
-    left, found = list(rows), []
-    state = seed * 7919 + 12345
+    left, found, draw = list(rows), [], Draw(seed)
     while left:
-        state = (state * 1103515245 + 12345) % 2 ** 31
-        found.append(left.pop(state // 65536 % len(left)))
+        found.append(left.pop(draw.below(len(left))))
     return found
 
 

@@ -7,35 +7,14 @@ import unittest
 from indexlogs.errors import Impossible, NoItem, NoList, NoLog
 from indexlogs.orders import index_range, log_of, order_of, reason, shows
 from indexlogs.records import Fronted, Inserted, Removed
-from indexlogs.replay import is_log, replay, states
+from indexlogs.replay import is_log, states
 from samples import KINDS, NO_LISTS, NO_LOGS, OTHERS, names, nested, shuffled
+from trying import first_list, leads, orders_by_trying
 
 FUNCTIONS = [
     reason, lambda log, items: shows(log, items, ("low", "a")), order_of,
     lambda log, items: index_range(log, items, "a"), lambda log, items: index_range(log, items, "nowhere"),
 ]
-
-
-def first_list(log, items):
-    """Give the list before all records, if items is the known list."""
-    if log and isinstance(log[0], Inserted):
-        own = [record.item for record in log]
-        return [item for item in items if item not in own]
-    return items
-
-
-def leads(order, items):
-    """Tell whether the records, one after another, fit the known list."""
-    try:
-        last = replay(first_list(order, items), order)
-    except Impossible:
-        return False
-    return not order or not isinstance(order[0], Inserted) or last == items
-
-
-def orders_by_trying(log, items):
-    """Give all orders in which the log can have happened."""
-    return [list(order) for order in itertools.permutations(log) if leads(list(order), items)]
 
 
 def certificates_by_definition(log, items):
